@@ -1,0 +1,29 @@
+// Package fault: what is wrong, and where.
+package fault
+
+import (
+	"errors"
+	"strconv"
+)
+
+// Which of the things that can be wrong it is: asked by errors.Is.
+var (
+	Schema = errors.New("a schema that is not right")
+	End    = errors.New("the bytes end")
+	Tag    = errors.New("another tag")
+	Length = errors.New("a length not told as it must be")
+)
+
+// Fault tells the place of what is wrong and wraps which it is: asked by errors.As.
+// The place counts bytes from the front, or the nodes of a schema.
+type Fault struct {
+	Place int
+	Which error
+}
+
+// At is the fault of this kind at this place.
+func At(place int, which error) error { return Fault{Place: place, Which: which} }
+
+func (f Fault) Error() string { return f.Which.Error() + ", at " + strconv.Itoa(f.Place) }
+
+func (f Fault) Unwrap() error { return f.Which }
