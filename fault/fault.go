@@ -8,10 +8,16 @@ import (
 
 // Which of the things that can be wrong it is: asked by errors.Is.
 var (
-	Schema = errors.New("a schema that is not right")
-	End    = errors.New("the bytes end")
-	Tag    = errors.New("another tag")
-	Length = errors.New("a length not told as it must be")
+	Schema  = errors.New("a schema that is not right")
+	Long    = errors.New("too many bytes")
+	End     = errors.New("the bytes end")
+	Tag     = errors.New("another tag")
+	Length  = errors.New("a length not told as it must be")
+	Value   = errors.New("a content that may not be")
+	More    = errors.New("bytes too many")
+	Order   = errors.New("not in rising order")
+	Default = errors.New("a Default that is told")
+	Deep    = errors.New("too deep")
 )
 
 // Fault tells the place of what is wrong and wraps which it is: asked by errors.As.

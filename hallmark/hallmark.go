@@ -5,6 +5,7 @@ import (
 	"errors"
 
 	"hallmark/api"
+	"hallmark/decode"
 	"hallmark/element"
 	"hallmark/fault"
 	"hallmark/schemas"
@@ -27,7 +28,8 @@ func Check(schema []api.Node) api.Errno { return number(schemas.Check(schema)) }
 
 // Decode reads a value (P5).
 func Decode(schema []api.Node, root int, data string) ([]api.Value, int, api.Errno) {
-	return nil, 0, api.OK
+	tree, err := decode.Tree(schema, root, data)
+	return tree, place(err), number(err)
 }
 
 // Encode writes one (P6).
@@ -39,17 +41,38 @@ func ReadCard(data string) (api.Card, int, api.Errno) { return api.Card{}, 0, ap
 // WriteCard writes one (P7).
 func WriteCard(c api.Card) (string, api.Errno) { return "", api.OK }
 
+// place is where it is that something is wrong.
+func place(err error) int {
+	var f fault.Fault
+	if errors.As(err, &f) {
+		return f.Place
+	}
+	return 0
+}
+
 // number is the one by which a call answers what is wrong.
 func number(err error) api.Errno {
 	switch {
 	case err == nil:
 		return api.OK
+	case errors.Is(err, fault.Long):
+		return api.ErrLong
 	case errors.Is(err, fault.End):
 		return api.ErrEnd
 	case errors.Is(err, fault.Tag):
 		return api.ErrTag
 	case errors.Is(err, fault.Length):
 		return api.ErrLength
+	case errors.Is(err, fault.Value):
+		return api.ErrValue
+	case errors.Is(err, fault.More):
+		return api.ErrMore
+	case errors.Is(err, fault.Order):
+		return api.ErrOrder
+	case errors.Is(err, fault.Default):
+		return api.ErrDefault
+	case errors.Is(err, fault.Deep):
+		return api.ErrDeep
 	}
 	return api.ErrSchema // fault.Schema is what is left
 }

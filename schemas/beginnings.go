@@ -1,14 +1,24 @@
 package schemas
 
 import (
+	"slices"
+
 	"hallmark/api"
 	"hallmark/element"
 )
 
-// beginnings of a node: all that there are, or these.
-type beginnings struct {
+// Beginnings of the nodes of a schema, by their places in it.
+type Beginnings []tagSet
+
+// tagSet: all tags that there are, or these.
+type tagSet struct {
 	all  bool
 	tags []element.Tag
+}
+
+// Has tells whether an element of the node may begin with this tag.
+func (b Beginnings) Has(node int, t element.Tag) bool {
+	return b[node].all || slices.Contains(b[node].tags, t)
 }
 
 // isOpen tells whether a node is a Choice without a Tag: its element is that of a kid.
@@ -42,16 +52,17 @@ func comesBack(nodes []api.Node, from int) bool {
 	return back
 }
 
-func allBeginnings(nodes []api.Node) []beginnings {
-	begins := make([]beginnings, len(nodes))
+// AllBeginnings is those of a schema whose Choices do not come back to themselves.
+func AllBeginnings(nodes []api.Node) Beginnings {
+	begins := make(Beginnings, len(nodes))
 	for i := range nodes {
 		begins[i] = beginningsOf(nodes, i)
 	}
 	return begins
 }
 
-func beginningsOf(nodes []api.Node, from int) beginnings {
-	var b beginnings
+func beginningsOf(nodes []api.Node, from int) tagSet {
+	var b tagSet
 	ends, _ := reach(nodes, from)
 	for _, end := range ends {
 		if n := nodes[end]; n.Kind == api.Any && n.Tag == noTag {
@@ -65,22 +76,20 @@ func beginningsOf(nodes []api.Node, from int) beginnings {
 
 // meets tells whether two nodes have a beginning in common. None is without any,
 // so what has all of them meets each.
-func (b beginnings) meets(other beginnings) bool {
+func (b tagSet) meets(other tagSet) bool {
 	if b.all || other.all {
 		return true
 	}
 	for _, t := range b.tags {
-		for _, u := range other.tags {
-			if t == u {
-				return true
-			}
+		if slices.Contains(other.tags, t) {
+			return true
 		}
 	}
 	return false
 }
 
 // isPlain tells whether the first byte says which kid of the node an element is.
-func isPlain(n api.Node, begins []beginnings) bool {
+func isPlain(n api.Node, begins Beginnings) bool {
 	switch n.Kind {
 	case api.Choice:
 		return choiceIsPlain(n.Kids, begins)
@@ -90,7 +99,7 @@ func isPlain(n api.Node, begins []beginnings) bool {
 	return true
 }
 
-func choiceIsPlain(kids []api.Kid, begins []beginnings) bool {
+func choiceIsPlain(kids []api.Kid, begins Beginnings) bool {
 	for i, k := range kids {
 		for _, other := range kids[i+1:] {
 			if begins[k.Node].meets(begins[other.Node]) {
@@ -101,7 +110,7 @@ func choiceIsPlain(kids []api.Kid, begins []beginnings) bool {
 	return true
 }
 
-func seqIsPlain(kids []api.Kid, begins []beginnings) bool {
+func seqIsPlain(kids []api.Kid, begins Beginnings) bool {
 kids:
 	for i, k := range kids {
 		if !mayLack(k) {

@@ -1,4 +1,4 @@
-// Package schemas: whether a schema is right.
+// Package schemas: whether a schema is right, and what its nodes say of the elements.
 package schemas
 
 import (
@@ -25,7 +25,7 @@ func Check(nodes []api.Node) error {
 			return fault.At(i, fault.Schema)
 		}
 	}
-	begins := allBeginnings(nodes)
+	begins := AllBeginnings(nodes)
 	for i, n := range nodes {
 		if !isPlain(n, begins) {
 			return fault.At(i, fault.Schema)
@@ -98,16 +98,26 @@ func isElement(n api.Node, text string) bool {
 	if n.Kind > api.Time {
 		return false
 	}
-	place := 0
+	inner, ok := within(n, text)
+	return ok && content.Fits(n.Kind, inner)
+}
+
+// within is what the heads of an element of this node are around, if text has just these heads.
+func within(n api.Node, text string) (inner string, ok bool) {
 	for _, want := range layers(n) {
-		h, err := element.Read(text, place)
-		if err != nil || element.FirstOf(h) != want {
-			return false
+		h, err := element.Read(text, 0)
+		if err != nil || element.FirstOf(h) != want || h.Size+h.Length != len(text) {
+			return "", false
 		}
-		place += h.Size
-		if place+h.Length != len(text) {
-			return false
-		}
+		text = text[h.Size:]
 	}
-	return content.Fits(n.Kind, text[place:])
+	return text, true
+}
+
+// Default is the value of a kid that has a Default and is left out. The content
+// was looked at by Check: it may be long, and be asked for often.
+func Default(nodes []api.Node, k api.Kid) api.Value {
+	n := nodes[k.Node]
+	text, _ := within(n, k.Default)
+	return api.Value{Kind: n.Kind, Text: text}
 }

@@ -44,14 +44,27 @@ func ownTag(kind int) element.Tag {
 	return element.Tag{Class: classOwn, Number: ownNumbers[kind]}
 }
 
+// Around is what the head of the element around says; ok is false of a node that has none.
+func Around(n api.Node) (first element.First, ok bool) {
+	if n.Mode != modeAround {
+		return element.First{}, false
+	}
+	return element.First{Tag: outerTag(n), Built: true}, true
+}
+
+// Own is what the head of the element itself says, in what may be around it: of kinds with an own tag.
+func Own(n api.Node) element.First {
+	tag := ownTag(n.Kind)
+	if n.Mode == modeInstead {
+		tag = outerTag(n)
+	}
+	return element.First{Tag: tag, Built: n.Kind >= api.Seq}
+}
+
 // layers is what the heads of an element of this node say, the outermost first: of kinds with an own tag.
 func layers(n api.Node) []element.First {
-	built := n.Kind >= api.Seq
-	if n.Mode == modeAround {
-		return []element.First{
-			{Tag: outerTag(n), Built: true},
-			{Tag: ownTag(n.Kind), Built: built},
-		}
+	if outer, ok := Around(n); ok {
+		return []element.First{outer, Own(n)}
 	}
-	return []element.First{{Tag: outerTag(n), Built: built}}
+	return []element.First{Own(n)}
 }
