@@ -26,11 +26,8 @@ type span struct {
 
 // Tree reads the one element of the root's node that data is.
 func Tree(nodes []api.Node, root int, data string) ([]api.Value, error) {
-	if err := schemas.Check(nodes); err != nil {
-		return nil, fault.At(0, err) // its own place counts nodes, not bytes
-	}
-	if root < 0 || root >= len(nodes) {
-		return nil, fault.At(0, fault.Schema)
+	if err := schemas.CheckRoot(nodes, root); err != nil {
+		return nil, err
 	}
 	if len(data) > api.MaxData {
 		return nil, fault.At(0, fault.Long)

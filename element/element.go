@@ -29,6 +29,17 @@ func FirstOf(h api.Head) First {
 	return First{Tag: Tag{Class: h.Class, Number: h.Number}, Built: h.Built}
 }
 
+// Head is the head that says so of a content of this length.
+func (f First) Head(length int) api.Head {
+	return api.Head{Class: f.Class, Built: f.Built, Number: f.Number, Length: length}
+}
+
+// IsWhole tells whether text is just one element.
+func IsWhole(text string) bool {
+	h, err := Read(text, 0)
+	return err == nil && h.Size+h.Length == len(text)
+}
+
 // Read reads the head of the element that begins at place. What is wrong is
 // told at that place, wherever in the head it is.
 func Read(data string, place int) (api.Head, error) {

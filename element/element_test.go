@@ -56,3 +56,18 @@ func TestFirstOfLeavesSizeAndLengthOut(t *testing.T) {
 		}
 	}
 }
+
+func TestHeadSaysWhatItsFirstSays(t *testing.T) {
+	want := api.Head{Class: 2, Built: true, Number: 3, Length: 200}
+	if h := element.FirstOf(want).Head(200); h != want {
+		t.Errorf("Head = %+v, want %+v", h, want)
+	}
+}
+
+func TestIsWhole(t *testing.T) {
+	for text, want := range map[string]bool{"\x05\x00": true, "\x04\x02ab": true, "": false, "\x05": false, "\x04\x02a": false, "\x04\x02abc": false, "\x1f\x00": false, "\x04\x81\x01a": false} {
+		if element.IsWhole(text) != want {
+			t.Errorf("IsWhole(%x) is not %v", text, want)
+		}
+	}
+}

@@ -18,10 +18,11 @@ var (
 	Order   = errors.New("not in rising order")
 	Default = errors.New("a Default that is told")
 	Deep    = errors.New("too deep")
+	Tree    = errors.New("no tree of the node")
 )
 
 // Fault tells the place of what is wrong and wraps which it is: asked by errors.As.
-// The place counts bytes from the front, or the nodes of a schema.
+// The place counts bytes from the front, or the nodes of a schema, or the values of a tree.
 type Fault struct {
 	Place int
 	Which error

@@ -1,6 +1,7 @@
 package hallmark_test
 
 import (
+	"fmt"
 	"reflect"
 	"strings"
 	"testing"
@@ -20,6 +21,15 @@ func number(n byte) api.Value { return leaf(api.Int, string([]byte{n})) }
 func tree(values ...api.Value) []api.Value { return values }
 
 var absent = api.Value{Kind: api.Absent}
+
+// brief is the front of a tree, as a test that fails shows it.
+func brief(values []api.Value) string {
+	text := fmt.Sprintf("%d values:", len(values))
+	for _, v := range values[:min(len(values), 20)] {
+		text += fmt.Sprintf(" {%d %.40x %d %d}", v.Kind, v.Text, v.Alt, v.Kids)
+	}
+	return text
+}
 
 // decoded is a row of bytes and what Decode must answer: a tree, or a place and an error.
 type decoded struct {
@@ -42,7 +52,7 @@ func wantDecoded(t *testing.T, what string, schema []api.Node, root int, cases .
 	for _, c := range cases {
 		got, place, e := hallmark.Decode(schema, root, c.data)
 		if e != c.e || place != c.place || !reflect.DeepEqual(append(tree(), got...), append(tree(), c.tree...)) {
-			t.Errorf("P5: %s: Decode(%.80x) = %.300v, %d, %d, want %.300v, %d, %d", what, c.data, got, place, e, c.tree, c.place, c.e)
+			t.Errorf("P5: %s: Decode(%.80x) = %s, %d, %d, want %s, %d, %d", what, c.data, brief(got), place, e, brief(c.tree), c.place, c.e)
 		}
 	}
 }

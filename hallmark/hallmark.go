@@ -7,6 +7,7 @@ import (
 	"hallmark/api"
 	"hallmark/decode"
 	"hallmark/element"
+	"hallmark/encode"
 	"hallmark/fault"
 	"hallmark/schemas"
 )
@@ -33,7 +34,10 @@ func Decode(schema []api.Node, root int, data string) ([]api.Value, int, api.Err
 }
 
 // Encode writes one (P6).
-func Encode(schema []api.Node, root int, tree []api.Value) (string, api.Errno) { return "", api.OK }
+func Encode(schema []api.Node, root int, tree []api.Value) (string, api.Errno) {
+	data, err := encode.Bytes(schema, root, tree)
+	return data, number(err)
+}
 
 // ReadCard reads a card (P7).
 func ReadCard(data string) (api.Card, int, api.Errno) { return api.Card{}, 0, api.OK }
@@ -73,6 +77,8 @@ func number(err error) api.Errno {
 		return api.ErrDefault
 	case errors.Is(err, fault.Deep):
 		return api.ErrDeep
+	case errors.Is(err, fault.Tree):
+		return api.ErrTree
 	}
 	return api.ErrSchema // fault.Schema is what is left
 }

@@ -34,6 +34,17 @@ func Check(nodes []api.Node) error {
 	return nil
 }
 
+// CheckRoot tells, at the place 0, whether a schema is right and root one of its nodes.
+func CheckRoot(nodes []api.Node, root int) error {
+	if err := Check(nodes); err != nil {
+		return fault.At(0, err) // its own place counts nodes
+	}
+	if root < 0 || root >= len(nodes) {
+		return fault.At(0, fault.Schema)
+	}
+	return nil
+}
+
 // isShaped looks at what a node says by itself, in a schema of so many nodes.
 func isShaped(n api.Node, nodes int) bool {
 	if n.Kind < api.Bool || n.Kind > api.Any || !isTagged(n) {
