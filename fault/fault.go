@@ -19,6 +19,8 @@ var (
 	Default = errors.New("a Default that is told")
 	Deep    = errors.New("too deep")
 	Tree    = errors.New("no tree of the node")
+	Card    = errors.New("no card")
+	Mark    = errors.New("a mark that may not be")
 )
 
 // Fault tells the place of what is wrong and wraps which it is: asked by errors.As.

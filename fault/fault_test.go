@@ -8,7 +8,7 @@ import (
 )
 
 func TestFaultTellsItsPlaceAndWrapsWhichItIs(t *testing.T) {
-	all := []error{fault.Schema, fault.Long, fault.End, fault.Tag, fault.Length, fault.Value, fault.More, fault.Order, fault.Default, fault.Deep, fault.Tree}
+	all := []error{fault.Schema, fault.Long, fault.End, fault.Tag, fault.Length, fault.Value, fault.More, fault.Order, fault.Default, fault.Deep, fault.Tree, fault.Card, fault.Mark}
 	for i, which := range all {
 		err := fault.At(7+i, which)
 		for _, other := range all {

@@ -5,6 +5,7 @@ import (
 	"errors"
 
 	"hallmark/api"
+	"hallmark/cards"
 	"hallmark/decode"
 	"hallmark/element"
 	"hallmark/encode"
@@ -40,10 +41,16 @@ func Encode(schema []api.Node, root int, tree []api.Value) (string, api.Errno) {
 }
 
 // ReadCard reads a card (P7).
-func ReadCard(data string) (api.Card, int, api.Errno) { return api.Card{}, 0, api.OK }
+func ReadCard(data string) (api.Card, int, api.Errno) {
+	c, err := cards.Read(data)
+	return c, place(err), number(err)
+}
 
 // WriteCard writes one (P7).
-func WriteCard(c api.Card) (string, api.Errno) { return "", api.OK }
+func WriteCard(c api.Card) (string, api.Errno) {
+	data, err := cards.Write(c)
+	return data, number(err)
+}
 
 // place is where it is that something is wrong.
 func place(err error) int {
@@ -79,6 +86,10 @@ func number(err error) api.Errno {
 		return api.ErrDeep
 	case errors.Is(err, fault.Tree):
 		return api.ErrTree
+	case errors.Is(err, fault.Card):
+		return api.ErrCard
+	case errors.Is(err, fault.Mark):
+		return api.ErrMark
 	}
 	return api.ErrSchema // fault.Schema is what is left
 }

@@ -97,15 +97,15 @@ func mayLack(k api.Kid) bool { return k.Optional || k.Default != "" }
 // defaultsFit tells whether the Defaults of a node's kids are elements of these kids.
 func defaultsFit(nodes []api.Node, n api.Node) bool {
 	for _, k := range n.Kids {
-		if k.Default != "" && !isElement(nodes[k.Node], k.Default) {
+		if k.Default != "" && !IsElement(nodes[k.Node], k.Default) {
 			return false
 		}
 	}
 	return true
 }
 
-// isElement tells whether text is just one element of this node, and the node of the kinds 1 to 9.
-func isElement(n api.Node, text string) bool {
+// IsElement tells whether text is just one element of this node, and the node of the kinds 1 to 9.
+func IsElement(n api.Node, text string) bool {
 	if n.Kind > api.Time {
 		return false
 	}
